@@ -1,0 +1,1 @@
+"""Clobberwalk: what cells can hold, and who writes them."""

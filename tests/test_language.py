@@ -1,0 +1,131 @@
+"""The files of the package keep to the plain subset of Python that they are written in."""
+
+import ast
+import builtins
+import pathlib
+import unittest
+
+FOLDER = pathlib.Path(__file__).resolve().parent.parent / "clobberwalk"
+
+LIBRARY = {
+    "heapq": {"heappush", "heappop", "heapify", "heapreplace", "heappushpop"},
+    "math": {"gcd", "lcm", "isqrt", "comb", "perm", "factorial"},
+    "itertools": {
+        "product", "combinations", "permutations", "chain", "accumulate", "pairwise", "islice", "zip_longest",
+    },
+    "collections": {"defaultdict", "deque"},
+}
+
+BUILTINS = {
+    "len", "range", "enumerate", "zip", "min", "max", "sum", "abs", "sorted", "reversed", "int", "str", "bool",
+    "list", "tuple", "dict", "set", "isinstance", "ord", "repr", "any", "all", "divmod", "map", "iter", "next",
+    "type", "super", "property", "staticmethod", "classmethod", "Exception", "ValueError", "TypeError", "KeyError",
+    "IndexError", "LookupError", "ZeroDivisionError", "ArithmeticError", "OverflowError", "RuntimeError",
+    "NotImplementedError", "AttributeError", "StopIteration", "NotImplemented",
+}
+
+BARRED = {
+    "register", "mro", "elements", "open", "input", "law", "version_info", "with_traceback", "add_note",
+    "attrgetter", "breakpoint", "builtins", "compile", "delattr", "dir", "eval", "exec", "exit", "gc", "globals",
+    "help", "id", "importlib", "license", "locals", "methodcaller", "os", "quit", "vars", "sys",
+}
+
+NODES_NOT_USED = (
+    ast.AsyncFunctionDef, ast.AsyncFor, ast.AsyncWith, ast.Await, ast.Div, ast.MatMult, ast.GeneratorExp, ast.Import,
+)
+
+
+def bound_names(tree):
+    """List the names that a tree binds: variables, parameters, functions, classes, imports, caught errors."""
+    found = []
+    for node in ast.walk(tree):
+        if isinstance(node, ast.Name) and not isinstance(node.ctx, ast.Load):
+            found.append(node.id)
+        elif isinstance(node, ast.arg):
+            found.append(node.arg)
+        elif isinstance(node, (ast.FunctionDef, ast.ClassDef, ast.ExceptHandler)) and node.name:
+            found.append(node.name)
+        elif isinstance(node, ast.alias):
+            found.append(node.name)
+    return found
+
+
+class Language(unittest.TestCase):
+    def check_each(self, check):
+        for path in sorted(FOLDER.rglob("*.py")):
+            with self.subTest(path.name):
+                text = path.read_text(encoding="utf-8")
+                check(path, text, ast.parse(text))
+
+    def test_the_folder_contains_plain_files_alone(self):
+        names = [path.name for path in FOLDER.iterdir() if path.name != "__pycache__"]
+        self.assertIn("__init__.py", names)
+        for name in names:
+            self.assertRegex(name, r"^[a-z0-9_]+\.py$")
+
+    def test_size_and_characters(self):
+        def check(_, text, tree):
+            lines = text.split("\n")
+            self.assertLessEqual(len(lines), 399)
+            self.assertLessEqual(max(map(len, lines)), 120)
+            self.assertLessEqual({sign for sign in text}, {chr(code) for code in range(32, 127)} | {"\n"})
+            for node in ast.walk(tree):
+                if isinstance(node, ast.FunctionDef):
+                    self.assertLessEqual(node.end_lineno - node.lineno + 1, 40, node.name)
+        self.check_each(check)
+
+    def test_statements_at_module_level(self):
+        def check(_, __, tree):
+            for node in tree.body:
+                plain = isinstance(node, (ast.ImportFrom, ast.FunctionDef, ast.ClassDef, ast.Assign))
+                docstring = node is tree.body[0] and isinstance(node, ast.Expr)
+                self.assertTrue(plain or docstring, ast.dump(node))
+        self.check_each(check)
+
+    def test_imports(self):
+        def check(_, __, tree):
+            for node in ast.walk(tree):
+                if isinstance(node, ast.ImportFrom):
+                    self.assertEqual(node.level, 0)
+                    names = {alias.name for alias in node.names}
+                    self.assertTrue(all([alias.asname is None for alias in node.names]))
+                    if node.module in LIBRARY:
+                        self.assertLessEqual(names, LIBRARY[node.module])
+                    else:
+                        self.assertIn(node.module, {f"clobberwalk.{path.stem}" for path in FOLDER.glob("*.py")})
+                        self.assertLessEqual(names, self.defined_in(node.module))
+        self.check_each(check)
+
+    def defined_in(self, module):
+        path = FOLDER / (module.split(".")[1] + ".py")
+        body = ast.parse(path.read_text(encoding="utf-8")).body
+        found = {node.name for node in body if isinstance(node, (ast.FunctionDef, ast.ClassDef))}
+        return found | {node.targets[0].id for node in body if isinstance(node, ast.Assign)}
+
+    def test_names(self):
+        def check(_, __, tree):
+            bound = set(bound_names(tree))
+            self.assertFalse(bound & BARRED)
+            self.assertFalse({name for name in bound if hasattr(builtins, name)} - {"__init__"})
+            imports = [alias.name for node in ast.walk(tree) if isinstance(node, ast.ImportFrom) for alias in node.names]
+            for name in imports:
+                self.assertEqual(bound_names(tree).count(name), 1, name)
+            for node in ast.walk(tree):
+                if isinstance(node, ast.Name) and isinstance(node.ctx, ast.Load) and hasattr(builtins, node.id):
+                    self.assertIn(node.id, BUILTINS)
+        self.check_each(check)
+
+    def test_nodes_that_are_not_used(self):
+        def check(_, text, tree):
+            for node in ast.walk(tree):
+                self.assertNotIsInstance(node, NODES_NOT_USED)
+                if isinstance(node, ast.Constant):
+                    self.assertNotIsInstance(node.value, (float, complex))
+                    self.assertFalse(isinstance(node.value, str) and "%" in node.value)
+                if isinstance(node, ast.Set):
+                    self.assertLess(len([k for k in node.elts if isinstance(getattr(k, "value", 0), int)]), 3)
+        self.check_each(check)
+
+
+if __name__ == "__main__":
+    unittest.main()
