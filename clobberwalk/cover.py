@@ -1,7 +1,7 @@
 """Which uses of registers are covered by their definitions [7]."""
 
-from clobberwalk.flow import dominators_of
-from clobberwalk.parts import defined_by, defined_in_block, things_of, used_by
+from clobberwalk.flow import dominators_of, goals_by_index, indexes_in
+from clobberwalk.parts import DEFINING_NONE, defined_in_block, used_by
 
 
 def first_uncovered(function):
@@ -9,31 +9,30 @@ def first_uncovered(function):
 
     Each register of the function is defined at most once.
     """
-    dominators = dominators_of(function)
+    dominators = dominators_of(goals_by_index(function))
+    defined = [{local: True for local in defined_in_block(block)} for block in function[2]]
     for b, block in enumerate(function[2]):
         # A block that is not reached has no dominators, and needs no definitions.
-        if block[0] in dominators:
-            found = _uncovered_in(block, _passed_before(function, block, dominators[block[0]]))
+        if dominators[b] > 0:
+            passed = {local: True for local in [*function[1], *block[1]]}
+            # The block dominates itself, but its instructions are still ahead.
+            for other in indexes_in(dominators[b] ^ (1 << b)):
+                passed.update(defined[other])
+            found = _uncovered_in(block, passed)
             if found is not None:
                 return (b, *found)
     return None
 
 
-def _passed_before(function, block, dominators):
-    """List the registers that are defined on every way to the first instruction of the block."""
-    passed = [*function[1], *block[1]]
-    for other in function[2]:
-        # The block dominates itself, but its instructions are still ahead.
-        if other[0] in dominators and other[0] != block[0]:
-            passed.extend(defined_in_block(other))
-    return passed
-
-
-def _uncovered_in(block, before):
-    passed = list(before)
-    for i, thing in enumerate(things_of(block)):
+def _uncovered_in(block, passed):
+    """Find (index, register) of the first use before which its register was not passed; passed grows."""
+    for i, thing in enumerate(block[2]):
         for local in used_by(thing):
             if local not in passed:
                 return (i, local)
-        passed.extend(defined_by(thing))
+        if thing[0] not in DEFINING_NONE:
+            passed[thing[1]] = True
+    for local in used_by(block[3]):
+        if local not in passed:
+            return (len(block[2]), local)
     return None

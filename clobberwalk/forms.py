@@ -4,37 +4,19 @@ Each value may be any value. What names refer to is not looked at here.
 """
 
 from clobberwalk.limits import Limits
+from clobberwalk.parts import ARGS_AT
 
 LONGEST_NAME = 8
 
-# The sorts of the parts that stand behind the word: "defined" and "used" are
-# single registers, "args" is a tuple of used ones, "number" an integer, the
-# others are names of what they say.
-INSTRUCTIONS = {
-    "num": ("defined", "number"),
-    "none": ("defined",),
-    "fun": ("defined", "function"),
-    "add": ("defined", "used", "used"),
-    "sub": ("defined", "used", "used"),
-    "mul": ("defined", "used", "used"),
-    "less": ("defined", "used", "used"),
-    "not": ("defined", "used"),
-    "same": ("defined", "used", "used"),
-    "new": ("defined", "kind"),
-    "row": ("defined", "used"),
-    "get": ("defined", "used", "field"),
-    "put": ("used", "field", "used"),
-    "at": ("defined", "used", "used"),
-    "set": ("used", "used", "used"),
-    "call": ("defined", "function", "args"),
-    "ask": ("defined", "used", "args"),
-    "show": ("used",),
+# How many parts each instruction and each end has, its word included. All parts
+# are names (also the word itself), but for the integer of a num and the tuples of
+# names at the indexes of ARGS_AT.
+SIZES = {
+    "num": 3, "none": 2, "fun": 3, "add": 4, "sub": 4, "mul": 4, "less": 4, "not": 3, "same": 4,
+    "new": 3, "row": 3, "get": 4, "put": 4, "at": 4, "set": 4, "call": 4, "ask": 4, "show": 2,
+    "go": 3, "if": 6, "give": 2,
 }
-ENDS = {
-    "go": ("block", "args"),
-    "if": ("used", "block", "args", "block", "args"),
-    "give": ("used",),
-}
+ENDS = ("go", "if", "give")
 
 
 def is_integer(value):
@@ -49,9 +31,10 @@ def is_number(value):
 
 def is_name(value):
     """Tell whether value is a string of 1 to 8 letters from a to z."""
-    if not isinstance(value, str) or not 1 <= len(value) <= LONGEST_NAME:
+    if not isinstance(value, str) or len(value) > LONGEST_NAME:
         return False
-    return all(["a" <= sign <= "z" for sign in value])
+    # Each of the three is asked of the string as a whole; the empty string is not alphabetic.
+    return value.isascii() and value.isalpha() and value.islower()
 
 
 def is_tuple(value, least, most):
@@ -107,40 +90,56 @@ def wrong_block(blocks):
 
 def is_instruction(value):
     """Tell whether value has the form of an instruction."""
-    word = _first_word(value)
-    return word in INSTRUCTIONS and _has_sorts(value, INSTRUCTIONS[word])
+    return _has_form(value, {}) and value[0] not in ENDS
 
 
 def is_end(value):
     """Tell whether value has the form of an end."""
-    word = _first_word(value)
-    return word in ENDS and _has_sorts(value, ENDS[word])
+    return _has_form(value, {}) and value[0] in ENDS
 
 
-def wrong_index(block):
-    """Find the first index at which a block has no instruction, or, behind them, no end; None for none."""
+def wrong_index(block, known):
+    """Find the first index at which a block has no instruction, or, behind them, no end; None for none.
+
+    The dict known collects the strings that were found to be names, so that each is looked at once.
+    """
     for i, thing in enumerate(block[2]):
-        if not is_instruction(thing):
+        if not _has_form(thing, known) or thing[0] in ENDS:
             return i
-    return None if is_end(block[3]) else len(block[2])
+    end = block[3]
+    return None if _has_form(end, known) and end[0] in ENDS else len(block[2])
 
 
-def _first_word(value):
+def _has_form(value, known):
     # Only a string may be looked up: other first parts need not be hashable.
-    if isinstance(value, tuple) and len(value) > 0 and isinstance(value[0], str):
-        return value[0]
-    return ""
-
-
-def _has_sorts(value, sorts):
-    if len(value) != len(sorts) + 1:
+    if not isinstance(value, tuple) or len(value) == 0 or not isinstance(value[0], str):
         return False
-    return all([_is_of_sort(part, sort) for part, sort in zip(value[1:], sorts)])
+    word = value[0]
+    if word not in SIZES or len(value) != SIZES[word]:
+        return False
+    if word in ARGS_AT:
+        return _has_args(value, ARGS_AT[word], known)
+    if word == "num":
+        return is_number(value[2]) and _are_names(value[:2], known)
+    return _are_names(value, known)
 
 
-def _is_of_sort(part, sort):
-    if sort == "number":
-        return is_number(part)
-    if sort == "args":
-        return is_names(part, Limits.MOST_BLOCK_PARAMETERS)
-    return is_name(part)
+def _has_args(value, places, known):
+    names = []
+    for at, part in enumerate(value):
+        if at not in places:
+            names.append(part)
+        elif is_tuple(part, 0, Limits.MOST_BLOCK_PARAMETERS):
+            names.extend(part)
+        else:
+            return False
+    return _are_names(names, known)
+
+
+def _are_names(parts, known):
+    for part in parts:
+        if not isinstance(part, str) or part not in known:
+            if not is_name(part):
+                return False
+            known[part] = True
+    return True

@@ -3,7 +3,12 @@
 from clobberwalk.cover import first_uncovered
 from clobberwalk.forms import has_function_form, is_kind, is_tuple, wrong_block, wrong_index
 from clobberwalk.limits import Limits
-from clobberwalk.parts import defined_in_function, links_of, parts_of, things_of
+from clobberwalk.parts import defined_in_function, links_of
+
+# Where an instruction names a part of the module, and of which sort this is.
+NAMED_AT = {
+    "fun": ("function", 2), "new": ("kind", 2), "get": ("field", 3), "put": ("field", 2), "call": ("function", 2),
+}
 
 
 def module_error(value):
@@ -59,9 +64,10 @@ def _block_error(functions):
 
 
 def _instruction_error(functions):
+    known = {}
     for f, function in enumerate(functions):
         for b, block in enumerate(function[2]):
-            i = wrong_index(block)
+            i = wrong_index(block, known)
             if i is not None:
                 return ("instruction", f, b, i)
     return None
@@ -74,7 +80,7 @@ def _main_error(functions):
 
 
 def _size_error(functions):
-    size = sum([len(things_of(block)) for function in functions for block in function[2]])
+    size = sum([len(block[2]) + 1 for function in functions for block in function[2]])
     return ("size",) if size > Limits.MOST_PLACES else None
 
 
@@ -87,32 +93,40 @@ def _name_error(kinds, functions):
     }
     for f, function in enumerate(functions):
         # No end leads to the entry, so it is left out.
-        known["block"] = {block[0]: len(block[1]) for block in function[2][1:]}
+        rooms = {block[0]: len(block[1]) for block in function[2][1:]}
         for b, block in enumerate(function[2]):
-            for i, thing in enumerate(things_of(block)):
-                if not _is_fitting(thing, known):
-                    return ("name", f, b, i)
+            i = _misnamed_index(block, known, rooms)
+            if i is not None:
+                return ("name", f, b, i)
     return None
 
 
-def _is_fitting(thing, known):
-    for sort in known:
-        for name in parts_of(thing, sort):
-            if name not in known[sort]:
-                return False
-    if thing[0] == "call":
-        name, args = thing[2:]
-        return len(args) == known["function"][name]
-    return all([len(args) == known["block"][name] for name, args in links_of(thing)])
+def _misnamed_index(block, known, rooms):
+    for i, thing in enumerate(block[2]):
+        if thing[0] in NAMED_AT:
+            sort, at = NAMED_AT[thing[0]]
+            if thing[at] not in known[sort]:
+                return i
+            if thing[0] == "call" and len(thing[3]) != known[sort][thing[at]]:
+                return i
+    for name, args in links_of(block[3]):
+        if name not in rooms or len(args) != rooms[name]:
+            return len(block[2])
+    return None
 
 
 def _twice_error(functions):
     for f, function in enumerate(functions):
-        seen = []
-        for local in defined_in_function(function):
-            if local in seen:
-                return ("twice", f, local)
-            seen.append(local)
+        found = defined_in_function(function)
+        if len(set(found)) < len(found):
+            return ("twice", f, _first_repeated(found))
+    return None
+
+
+def _first_repeated(names):
+    for at, name in enumerate(names):
+        if name in names[:at]:
+            return name
     return None
 
 

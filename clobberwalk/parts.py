@@ -1,32 +1,41 @@
 """What instructions, ends, blocks and functions of a right form consist of."""
 
-from clobberwalk.forms import ENDS, INSTRUCTIONS
+# The indexes of the tuples of used registers; the single ones stand before them.
+ARGS_AT = {"call": (3,), "ask": (3,), "go": (2,), "if": (3, 5)}
 
+# Where the single used registers stand: from, to, by. Other words have none.
+USED_AT = {
+    "add": (2, 4, 1), "sub": (2, 4, 1), "mul": (2, 4, 1), "less": (2, 4, 1), "same": (2, 4, 1), "at": (2, 4, 1),
+    "not": (2, 3, 1), "row": (2, 3, 1), "get": (2, 3, 1), "ask": (2, 3, 1),
+    "put": (1, 4, 2), "set": (1, 4, 1),
+    "show": (1, 2, 1), "if": (1, 2, 1), "give": (1, 2, 1),
+}
 
-def parts_of(thing, sort):
-    """List the parts of this sort of an instruction or an end, as they are written."""
-    return [part for part, other in _sorted_parts(thing) if other == sort]
-
-
-def defined_by(thing):
-    """List the registers that an instruction or an end defines: one or none."""
-    return parts_of(thing, "defined")
+# The words of the instructions that define no register; all others define their first part.
+DEFINING_NONE = ("put", "set", "show")
 
 
 def used_by(thing):
-    """List the registers that an instruction or an end uses, as they are written."""
-    found = []
-    for part, sort in _sorted_parts(thing):
-        if sort == "used":
-            found.append(part)
-        elif sort == "args":
-            found.extend(part)
+    """Tell the registers that an instruction or an end uses, as they are written."""
+    word = thing[0]
+    found = ()
+    if word in USED_AT:
+        first, last, by = USED_AT[word]
+        found = thing[first:last:by]
+    if word in ARGS_AT:
+        for at in ARGS_AT[word]:
+            found = found + thing[at]
     return found
 
 
-def links_of(thing):
-    """List the tuples (block, args) of an end; an instruction has none."""
-    return list(zip(parts_of(thing, "block"), parts_of(thing, "args")))
+def links_of(end):
+    """List the tuples (block, args) of an end."""
+    return [(end[at - 1], end[at]) for at in ARGS_AT.get(end[0], ())]
+
+
+def goals_of(end):
+    """List the names of the blocks to which an end leads."""
+    return [end[at - 1] for at in ARGS_AT.get(end[0], ())]
 
 
 def things_of(block):
@@ -36,10 +45,7 @@ def things_of(block):
 
 def defined_in_block(block):
     """List the registers that are defined in a block, in their order."""
-    found = list(block[1])
-    for instruction in block[2]:
-        found.extend(defined_by(instruction))
-    return found
+    return [*block[1], *[thing[1] for thing in block[2] if thing[0] not in DEFINING_NONE]]
 
 
 def defined_in_function(function):
@@ -48,9 +54,3 @@ def defined_in_function(function):
     for block in function[2]:
         found.extend(defined_in_block(block))
     return found
-
-
-def _sorted_parts(thing):
-    word = thing[0]
-    sorts = ENDS[word] if word in ENDS else INSTRUCTIONS[word]
-    return list(zip(thing[1:], sorts))
