@@ -7,6 +7,8 @@ from clobberwalk.limits import Limits
 from clobberwalk.parts import ARGS_AT
 
 LONGEST_NAME = 8
+# An integer of a module or a run is at most this in size.
+GREATEST = 10 ** 40
 
 # How many parts each instruction and each end has, its word included. All parts
 # are names (also the word itself), but for the integer of a num and the tuples of
@@ -26,7 +28,7 @@ def is_integer(value):
 
 def is_number(value):
     """Tell whether value is an integer from -10 ** 40 to 10 ** 40."""
-    return is_integer(value) and abs(value) <= 10 ** 40
+    return is_integer(value) and abs(value) <= GREATEST
 
 
 def is_name(value):

@@ -50,6 +50,24 @@ def bound_names(tree):
     return found
 
 
+def loaded_names(tree):
+    """Tell the names that a tree reads, those of classes that it calls or extends included."""
+    return {node.id for node in ast.walk(tree) if isinstance(node, ast.Name) and isinstance(node.ctx, ast.Load)}
+
+
+def is_reading(parent, child):
+    """Tell whether a table is indexed, tested by in, iterated, or asked by a method that changes nothing."""
+    if isinstance(parent, ast.Subscript):
+        return parent.value is child and isinstance(parent.ctx, ast.Load)
+    if isinstance(parent, ast.Compare):
+        return True
+    if isinstance(parent, ast.Attribute):
+        return parent.attr in ("get", "items", "values")
+    if isinstance(parent, (ast.For, ast.comprehension)):
+        return parent.iter is child
+    return isinstance(parent, ast.Call) and parent.func.id in ("len", "sorted", "list", "dict", "tuple")
+
+
 class Language(unittest.TestCase):
     def check_each(self, check):
         for path in sorted(FOLDER.rglob("*.py")):
@@ -106,13 +124,56 @@ class Language(unittest.TestCase):
         def check(_, __, tree):
             bound = set(bound_names(tree))
             self.assertFalse(bound & BARRED)
-            self.assertFalse({name for name in bound if hasattr(builtins, name)} - {"__init__"})
+            self.assertFalse({name for name in bound if hasattr(builtins, name)} - {"__init__", "__eq__"})
             imports = [alias.name for node in ast.walk(tree) if isinstance(node, ast.ImportFrom) for alias in node.names]
             for name in imports:
                 self.assertEqual(bound_names(tree).count(name), 1, name)
             for node in ast.walk(tree):
                 if isinstance(node, ast.Name) and isinstance(node.ctx, ast.Load) and hasattr(builtins, node.id):
                     self.assertIn(node.id, BUILTINS)
+        self.check_each(check)
+
+    def test_each_import_and_each_function_is_used(self):
+        texts = {path: ast.parse(path.read_text(encoding="utf-8")) for path in FOLDER.rglob("*.py")}
+        loaded = {path: loaded_names(tree) for path, tree in texts.items()}
+        imported = {
+            alias.name for tree in texts.values() for node in tree.body if isinstance(node, ast.ImportFrom)
+            for alias in node.names
+        }
+        for path, tree in texts.items():
+            with self.subTest(path.name):
+                for node in tree.body:
+                    if isinstance(node, ast.ImportFrom):
+                        self.assertLessEqual({alias.name for alias in node.names}, loaded[path])
+                    elif isinstance(node, ast.FunctionDef) and node.name.startswith("_"):
+                        self.assertIn(node.name, loaded[path])
+                    elif isinstance(node, ast.Assign):
+                        self.assertIn(node.targets[0].id, loaded[path] | imported)
+
+    def test_no_two_files_import_from_each_other(self):
+        follows = {path.stem: set() for path in FOLDER.glob("*.py")}
+        for path in FOLDER.glob("*.py"):
+            for node in ast.parse(path.read_text(encoding="utf-8")).body:
+                if isinstance(node, ast.ImportFrom) and node.module.startswith("clobberwalk."):
+                    follows[path.stem].add(node.module.split(".")[1])
+        while follows:
+            free = [name for name, others in follows.items() if not others & set(follows)]
+            self.assertTrue(free, follows)
+            for name in free:
+                del follows[name]
+
+    def test_tables_at_module_level_are_only_read(self):
+        tables = set()
+        for path in FOLDER.rglob("*.py"):
+            for node in ast.parse(path.read_text(encoding="utf-8")).body:
+                if isinstance(node, ast.Assign) and isinstance(node.value, (ast.Dict, ast.List)):
+                    tables.add(node.targets[0].id)
+
+        def check(_, __, tree):
+            for parent in ast.walk(tree):
+                for child in ast.iter_child_nodes(parent):
+                    if isinstance(child, ast.Name) and child.id in tables and isinstance(child.ctx, ast.Load):
+                        self.assertTrue(is_reading(parent, child), ast.dump(parent))
         self.check_each(check)
 
     def test_nodes_that_are_not_used(self):

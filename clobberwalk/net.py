@@ -1,0 +1,130 @@
+"""The things and the holders of a module, by bits and numbers [15].
+
+A set of things is a mask of their bits; the bits ascend as the things do. A
+state is a list of masks: for the number of each holder the things that it holds.
+"""
+
+from clobberwalk.asking import is_place
+from clobberwalk.flow import indexes_in, reached_blocks
+from clobberwalk.parts import defined_in_function
+
+# Two numbers that stand for no holder: one holds every thing, as what needs
+# nothing is made from it, the other one the functions that are live.
+FULL = 0
+LIVE = 1
+
+NONE = ("none",)
+NUMBER = ("number",)
+
+
+class Net:
+    """The things, holders, and reached blocks of a module."""
+
+    def __init__(self, module):
+        self.fields = {kind[0]: kind[1] for kind in module[0]}
+        self.functions = {function[0]: function for function in module[1]}
+        self.blocks = {function[0]: reached_blocks(function) for function in module[1]}
+        # The new or row of each site; places ascend as sites do.
+        self.sites = _sites_of(self.blocks)
+        named = [("fun", name) for name in self.functions]
+        self.things = [*named, NONE, NUMBER, *[("site", place) for place in self.sites]]
+        self.bits = {thing: 1 << at for at, thing in enumerate(self.things)}
+        self.holders = [None, None]
+        self.given = {}
+        self.homes = {}
+        self.cells = {}
+        # For each field, and None for elements, the cells of all sites, by the bits of these.
+        self.owners = {None: {}}
+        for name in self.functions:
+            self._add_function(name)
+        for place, made in self.sites.items():
+            self._add_site(place, made)
+
+    def _add_function(self, name):
+        self.given[name] = len(self.holders)
+        self.holders.append(("given", name))
+        homes = {}
+        for local in defined_in_function(self.functions[name]):
+            homes[local] = len(self.holders)
+            self.holders.append(("register", name, local))
+        self.homes[name] = homes
+
+    def _add_site(self, place, made):
+        names = [None] if made[0] == "row" else self.fields[made[2]]
+        cells = {}
+        for name in names:
+            cells[name] = len(self.holders)
+            self.owners.setdefault(name, {})[self.bits[("site", place)]] = len(self.holders)
+            self.holders.append(("element", place) if name is None else ("field", place, name))
+        self.cells[place] = cells
+
+    def empty_state(self):
+        """Make the state in which no holder holds anything, and no function is live."""
+        masks = [0 for _ in self.holders]
+        masks[FULL] = (1 << len(self.things)) - 1
+        return masks
+
+    def things_in(self, mask):
+        """List the things of a mask, ascending."""
+        return [self.things[at] for at in indexes_in(mask)]
+
+    def bit_of(self, value):
+        """Find the bit of a thing, 0 for any value that is none of the module."""
+        if not isinstance(value, tuple) or len(value) == 0:
+            return 0
+        if value == NONE or value == NUMBER:
+            return self.bits[value]
+        if len(value) != 2:
+            return 0
+        word, part = value
+        if (word == "fun" and isinstance(part, str)) or (word == "site" and is_place(part)):
+            return self.bits.get(value, 0)
+        return 0
+
+    def number_of(self, value):
+        """Find the number of a holder, None for any value that is none of the module."""
+        if not isinstance(value, tuple) or not 2 <= len(value) <= 3:
+            return None
+        word, part = value[0], value[1]
+        if word == "given" and len(value) == 2 and isinstance(part, str):
+            return self.given.get(part)
+        if word == "element" and len(value) == 2:
+            return self._cell_of(part, None)
+        if len(value) == 2 or not isinstance(value[2], str):
+            return None
+        if word == "register" and isinstance(part, str) and part in self.homes:
+            return self.homes[part].get(value[2])
+        return self._cell_of(part, value[2]) if word == "field" else None
+
+    def _cell_of(self, place, name):
+        if not is_place(place) or place not in self.cells:
+            return None
+        return self.cells[place].get(name)
+
+    def fitting(self, count):
+        """List the functions with so many parameters, ascending."""
+        return [name for name in self.functions if len(self.functions[name][1]) == count]
+
+    def name_of(self, bit):
+        """Tell the name of the function with this bit."""
+        return self.things[bit.bit_length() - 1][1]
+
+
+def bits_in(mask):
+    """List the bits of a mask, ascending."""
+    found = []
+    while mask > 0:
+        low = mask & -mask
+        found.append(low)
+        mask ^= low
+    return found
+
+
+def _sites_of(blocks):
+    found = {}
+    for name in blocks:
+        for block in blocks[name]:
+            for i, thing in enumerate(block[2]):
+                if thing[0] == "new" or thing[0] == "row":
+                    found[(name, block[0], i)] = thing
+    return {place: found[place] for place in sorted(found)}

@@ -1,0 +1,57 @@
+"""The least state that the rules of a module make [16]."""
+
+from clobberwalk.net import FULL, LIVE, bits_in
+from clobberwalk.rules import rules_in, start_rule
+
+
+def least_state(net, reasons):
+    """Do the rules until they make nothing more.
+
+    If reasons is a dict, it gets for each tuple (holder, bit), in the order in which they are made, the rule and
+    the tuples that it needed.
+    """
+    masks = net.empty_state()
+    _spread(start_rule(net), masks, reasons)
+    begun = 0
+    lasting = []
+    changed = True
+    while changed:
+        changed = False
+        for bit in bits_in(masks[LIVE] & ~begun):
+            changed = True
+            begun |= bit
+            for rule in rules_in(net, net.name_of(bit)):
+                _spread(rule, masks, reasons)
+                if rule.lasts():
+                    lasting.append(rule)
+        for rule in lasting:
+            if _spread(rule, masks, reasons):
+                changed = True
+    return masks
+
+
+def _spread(rule, masks, reasons):
+    """Put what a rule makes into a state; tell whether it was more."""
+    changed = False
+    for link in rule.links(masks):
+        source, goal, only, _, _ = link
+        more = masks[source] & only & ~masks[goal]
+        if more > 0:
+            if reasons is not None:
+                _note(reasons, rule, link, more)
+            masks[goal] |= more
+            changed = True
+    return changed
+
+
+def _note(reasons, rule, link, more):
+    source, goal, _, base, brought = link
+    for bit in bits_in(more):
+        needs = []
+        if rule.owner > 0:
+            needs.append((LIVE, rule.owner))
+        if source != FULL:
+            needs.append((source, bit))
+        if base != FULL:
+            needs.append((base, brought))
+        reasons[(goal, bit)] = (rule, needs)
