@@ -72,7 +72,7 @@ def _fact_of(net, value):
 
 def _live_of(net, name):
     """Tell a function that is live likewise."""
-    return (LIVE, net.bits[("fun", name)]) if isinstance(name, str) and name in net.functions else None
+    return (LIVE, net.fun_bit(name)) if isinstance(name, str) and name in net.functions else None
 
 
 def _conclusion_of(net, value):

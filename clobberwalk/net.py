@@ -105,6 +105,31 @@ class Net:
         """List the functions with so many parameters, ascending."""
         return [name for name in self.functions if len(self.functions[name][1]) == count]
 
+    def owners_of(self, name):
+        """Tell the mask of the sites that have the field, or, for None, of all rows."""
+        return sum(list(self.owners.get(name, {})))
+
+    def num_of(self, f, local):
+        """Find the integer of the num that defines a register, None if no num does."""
+        for block in self.functions[f][2]:
+            for thing in block[2]:
+                if thing[0] == "num" and thing[1] == local:
+                    return thing[2]
+        return None
+
+    def length_at(self, place):
+        """Find the integer of the num that defines the length of the rows of a site, None if no num does."""
+        return self.num_of(place[0], self.sites[place][2])
+
+    def cells_by_bit(self, bit):
+        """List the numbers of the cells of the site with this bit; other things have none."""
+        thing = self.things[bit.bit_length() - 1]
+        return list(self.cells[thing[1]].values()) if thing[0] == "site" else []
+
+    def fun_bit(self, name):
+        """Tell the bit of the function with this name."""
+        return self.bits[("fun", name)]
+
     def name_of(self, bit):
         """Tell the name of the function with this bit."""
         return self.things[bit.bit_length() - 1][1]

@@ -14,6 +14,11 @@ USED_AT = {
 # The words of the instructions that define no register; all others define their first part.
 DEFINING_NONE = ("put", "set", "show")
 
+LOADS = ("get", "at")
+STORES = ("put", "set")
+ACCESSES = ("get", "at", "put", "set")
+CALLS = ("call", "ask")
+
 
 def used_by(thing):
     """Tell the registers that an instruction or an end uses, as they are written."""
@@ -26,6 +31,18 @@ def used_by(thing):
         for at in ARGS_AT[word]:
             found = found + thing[at]
     return found
+
+
+def base_of(access):
+    """Tell the register by which an access finds its object or row."""
+    return access[2] if access[0] in LOADS else access[1]
+
+
+def field_of(access):
+    """Tell the field of an access, None if it is of elements."""
+    if access[0] == "get":
+        return access[3]
+    return access[2] if access[0] == "put" else None
 
 
 def links_of(end):

@@ -6,7 +6,7 @@ FULL needs nothing.
 """
 
 from clobberwalk.net import FULL, LIVE, NONE, NUMBER, bits_in
-from clobberwalk.parts import links_of, things_of
+from clobberwalk.parts import LOADS, base_of, field_of, links_of, things_of
 
 EVERY = -1
 
@@ -55,7 +55,7 @@ class Rule:
 def start_rule(net):
     """Make the rule by which main is live."""
     main = net.functions["main"]
-    made = [(LIVE, net.bits[("fun", "main")])]
+    made = [(LIVE, net.fun_bit("main"))]
     made.extend([(net.homes["main"][local], net.bits[NUMBER]) for local in main[1]])
     return Rule("start", None, 0, _makes(made))
 
@@ -73,7 +73,7 @@ def rules_in(net, name):
 def _rule_at(net, place, thing):
     word = RULES[thing[0]]
     homes = net.homes[place[0]]
-    rule = Rule(word, place, net.bits[("fun", place[0])], [])
+    rule = Rule(word, place, net.fun_bit(place[0]), [])
     if word == "make":
         rule.fixed = _makes(_made_at(net, place, thing, homes))
     elif word == "pass":
@@ -83,7 +83,7 @@ def _rule_at(net, place, thing):
     elif word == "put" or word == "get":
         _let_access(rule, net, thing, homes)
     elif word == "call":
-        rule.fixed = _makes([(LIVE, net.bits[("fun", thing[2])])]) + _passes(_called(net, thing, thing[2], homes))
+        rule.fixed = _makes([(LIVE, net.fun_bit(thing[2]))]) + _passes(_called(net, thing, thing[2], homes))
     else:
         _let_ask(rule, net, thing, homes)
     return rule
@@ -103,7 +103,7 @@ def _made_at(net, place, thing, homes):
         none = net.bits[NONE]
         return [(goal, net.bits[("site", place)]), *[(cell, none) for cell in net.cells[place].values()]]
     if thing[0] == "fun":
-        return [(goal, net.bits[("fun", thing[2])])]
+        return [(goal, net.fun_bit(thing[2]))]
     return [(goal, net.bits[NONE if thing[0] == "none" else NUMBER])]
 
 
@@ -124,18 +124,16 @@ def _called(net, thing, name, homes):
 
 
 def _let_access(rule, net, thing, homes):
-    if thing[0] == "put" or thing[0] == "set":
-        base, stored = homes[thing[1]], homes[thing[3]]
-        cells = net.owners.get(thing[2] if thing[0] == "put" else None, {})
-        rule.bring(base, {bit: [(stored, cell)] for bit, cell in cells.items()})
+    cells = net.owners.get(field_of(thing), {})
+    if thing[0] in LOADS:
+        brought = {bit: [(cell, homes[thing[1]])] for bit, cell in cells.items()}
     else:
-        base, local = homes[thing[2]], homes[thing[1]]
-        cells = net.owners.get(thing[3] if thing[0] == "get" else None, {})
-        rule.bring(base, {bit: [(cell, local)] for bit, cell in cells.items()})
+        brought = {bit: [(homes[thing[3]], cell)] for bit, cell in cells.items()}
+    rule.bring(homes[base_of(thing)], brought)
 
 
 def _let_ask(rule, net, thing, homes):
     base = homes[thing[2]]
     names = net.fitting(len(thing[3]))
-    rule.bring(base, {net.bits[("fun", name)]: _called(net, thing, name, homes) for name in names})
+    rule.bring(base, {net.fun_bit(name): _called(net, thing, name, homes) for name in names})
     rule.fixed = [(base, LIVE, rule.bringers, FULL, 0)]

@@ -1,6 +1,7 @@
 """The facts of a module, to ask about them again and again [15, 16]."""
 
-from clobberwalk.net import LIVE, Net
+from clobberwalk.net import LIVE, Net, bits_in
+from clobberwalk.parts import base_of, field_of
 from clobberwalk.spread import least_state
 
 
@@ -21,7 +22,7 @@ class Told:
 
     def is_live(self, f):
         """Tell whether a function is live."""
-        return self.masks[LIVE] & self.net.bits[("fun", f)] > 0
+        return self.masks[LIVE] & self.net.fun_bit(f) > 0
 
     def live(self):
         """List the functions that are live, ascending."""
@@ -34,4 +35,9 @@ class Told:
         if thing[0] == "call":
             return [thing[2]]
         held = self.held(f, thing[2])
-        return [name for name in self.net.fitting(len(thing[3])) if held & self.net.bits[("fun", name)] > 0]
+        return [name for name in self.net.fitting(len(thing[3])) if held & self.net.fun_bit(name) > 0]
+
+    def cells_of(self, f, access):
+        """List the numbers of the cells of an access of a function."""
+        cells = self.net.owners.get(field_of(access), {})
+        return [cells[bit] for bit in bits_in(self.held(f, base_of(access))) if bit in cells]

@@ -9,7 +9,14 @@ WORDS = (
     ("new", 4), ("row", 2), ("get", 4), ("put", 4), ("at", 3), ("set", 3), ("call", 3), ("ask", 3), ("show", 2),
 )
 DECK = [word for word, many in WORDS for _ in range(many)]
-NUMBERS = (0, 1, 2, -1, 3, 60, 61, 10 ** 40, -10 ** 20)
+NEEDS = {
+    "get": "box", "put": "box", "at": "row", "set": "row", "ask": "fun", "add": "number", "sub": "number", "mul": "number",
+    "less": "number", "not": "number", "row": "number", "show": "number",
+}
+MAKERS = {"box": "new", "row": "row", "fun": "fun", "number": "num"}
+SORTS = ("number", "box", "box", "row", "fun")
+COMMON = (0, 0, 1, 1, 2, 3, 9, 9, -1)
+NUMBERS = (*COMMON, 60, 61, 10 ** 40, -10 ** 20)
 
 
 def labels(first, count):
@@ -22,7 +29,9 @@ def draw_module(source, most_functions=4, most_blocks=5, most_things=5):
     """Make a module of functions of some blocks of some instructions each."""
     others = sorted(source.sample(("a", "f", "g", "h", "n", "z", "zz"), source.randint(0, most_functions - 1)))
     names = sorted([*others, "main"])
-    rooms = {name: source.randint(0, 2) for name in names}
+    # The sorts of what the parameters of each function should hold; those of main hold integers.
+    rooms = {name: [source.choice(SORTS) for _ in range(source.randint(0, 2))] for name in names}
+    rooms["main"] = ["number"] * len(rooms["main"])
     while True:
         functions = tuple([
             Drawer(source, name, rooms).function(source.randint(1, most_blocks), most_things) for name in names
@@ -79,7 +88,7 @@ class Drawer:
     def function(self, count, most_things):
         """Draw the function, with so many blocks."""
         source = self.source
-        parameters = tuple([self.local("number") for _ in range(self.rooms[self.name])])
+        parameters = tuple([self.local(sort) for sort in self.rooms[self.name]])
         goals = draw_goals(source, count)
         reached = ways(goals, None)
         above = {at: [b for b in range(count) if at not in ways(goals, b)] for at in reached}
@@ -99,25 +108,36 @@ class Drawer:
     def things(self, ready, count, is_entry):
         """Draw instructions, and make what they define ready."""
         found = []
+        words = [self.word() for _ in range(count)]
         if is_entry or not ready:
-            found.append(self.thing(ready, self.source.choice(("num", "new", "fun"))))
-            ready.append(found[0][1])
-        for _ in range(count):
-            thing = self.thing(ready, self.source.choice(DECK))
+            words.insert(0, self.source.choice(("num", "new", "fun")))
+        if is_entry and self.later() and self.source.random() < 0.6:
+            words[1:1] = ["new", "row" if self.source.random() < 0.3 else "fun", self.source.choice(("call", "ask"))]
+        for word in words:
+            thing = self.thing(ready, word)
             found.append(thing)
             if thing[0] not in ("put", "set", "show"):
                 ready.append(thing[1])
         return found
 
+    def word(self):
+        """Choose a word; seldom a call where all functions that are left would be in rings."""
+        word = self.source.choice(DECK)
+        if word in ("call", "ask") and not self.later() and self.source.random() < 0.8:
+            return self.source.choice(("get", "put", "at", "set", "same"))
+        return word
+
     def thing(self, ready, word):
-        """Draw an instruction with this word."""
+        """Draw an instruction with this word, or often one that makes what the word needs."""
         source = self.source
+        while word in NEEDS and NEEDS[word] not in [self.sorts[name] for name in ready] and source.random() < 0.9:
+            word = MAKERS[NEEDS[word]]
         if word == "num":
-            return (word, self.local("number"), source.choice(NUMBERS[:5] if source.random() < 0.8 else NUMBERS))
+            return (word, self.local("number"), source.choice(COMMON if source.random() < 0.8 else NUMBERS))
         if word == "none":
             return (word, self.local("any"))
         if word == "fun":
-            return (word, self.local("fun"), source.choice(list(self.rooms)))
+            return (word, self.local("fun"), self.callee())
         if word == "same":
             return (word, self.local("number"), source.choice(ready), source.choice(ready))
         if word in ("add", "sub", "mul", "less"):
@@ -137,7 +157,7 @@ class Drawer:
         """Draw a load or a store."""
         field = "left" if self.source.random() < 0.8 else self.source.choice(FIELDS)
         if word == "get":
-            return (word, self.local(self.source.choice(("any", "box", "number"))), self.pick(ready, "box"), field)
+            return (word, self.local(self.source.choice(("any", "any", "box", "number"))), self.pick(ready, "box"), field)
         if word == "put":
             return (word, self.pick(ready, "box"), field, self.source.choice(ready))
         index = self.pick(ready, "number")
@@ -145,15 +165,25 @@ class Drawer:
             return (word, self.local(self.source.choice(("any", "row", "fun"))), self.pick(ready, "row"), index)
         return (word, self.pick(ready, "row"), index, self.source.choice(ready))
 
+    def later(self):
+        """List the functions behind this one: so not all calls are in rings."""
+        names = [name for name in self.rooms if name != "main"]
+        return names if self.name == "main" else names[names.index(self.name) + 1:]
+
+    def callee(self):
+        """Choose a function."""
+        later = self.later()
+        return self.source.choice(later if later and self.source.random() < 0.85 else list(self.rooms))
+
     def jump(self, ready, word):
         """Draw a call or an ask."""
-        callee = self.source.choice(list(self.rooms))
-        many = self.rooms[callee]
+        callee = self.callee()
+        sorts = self.rooms[callee]
         if word == "ask":
             base = self.pick(ready, "fun")
-            many = many if self.source.random() < 0.9 else self.source.randint(0, 6)
-        args = tuple([self.pick(ready, "number") for _ in range(many)])
-        sort = self.source.choice(("any", "number", "box"))
+            sorts = sorts if self.source.random() < 0.9 else ["number"] * self.source.randint(0, 6)
+        args = tuple([self.pick(ready, sort) for sort in sorts])
+        sort = self.source.choice(("any", "any", "number", "box"))
         return (word, self.local(sort), callee if word == "call" else base, args)
 
     def end(self, ready, goals, names, rooms):

@@ -13,7 +13,6 @@ from clobberwalk.modules import module_error
 
 RICH = samples.RICH
 WORDS = [thing[0] for thing in samples.EVERY_WORD] + ["go"]
-FIRST = ("new", "row", "get", "put", "at", "set", "call", "ask")
 PLACES = {word: ("main", "start", WORDS.index(word)) for word in WORDS}
 ALL_PLACES = [*PLACES.values(), ("main", "loop", 0), ("main", "loop", 1), ("main", "both", 1), ("twin", "only", 0)]
 
@@ -51,6 +50,11 @@ def place_with(*words):
 NAME = [Sort(["main", "twin"], WRONG_NAMES, errors.UnknownName, "value")]
 BLOCK = [Sort(["start", "loop", "both", "done"], WRONG_BLOCKS, errors.UnknownName, "value")]
 LOCAL = [Sort(["x", "n", "p", "i", "s"], WRONG_LOCALS, errors.UnknownName, "value")]
+PLACE = [Sort(ALL_PLACES, WRONG_PLACES, errors.UnknownPlace, "value")]
+ACCESS, CALL = place_with("get", "put", "at", "set"), place_with("call", "ask")
+THINGS = [Sort([[], (), [("none",)], (("number",), ("fun", "twin"))],
+               [*[one for one in samples.STRAYS if one not in ((), [])], ("none",), [("nothing",)], [PLACES["new"]]],
+               errors.InvalidThings, "value")]
 ANY = [Sort([None, [], (), "main", PLACES["new"]], [], None, None)]
 INPUTS = [Sort([[1], (0,), [-10 ** 40], (10 ** 40,)], [one for one in WRONG_INPUTS if one != (1,) and one != [1]],
                errors.InvalidInputs, "value")]
@@ -69,7 +73,17 @@ FUNCTIONS = {
     },
     "facts": {
         "holds": {"f": NAME, "local": LOCAL}, "given_by": {"f": NAME}, "kept": {"place": place_with("new", "row")},
-        "live": {}, "goals": {"place": place_with("call", "ask")}, "facts": {},
+        "live": {}, "goals": {"place": CALL}, "facts": {},
+    },
+    "faults": {"words": {"place": PLACE}, "is_sure": {"place": PLACE}, "sorts": {"f": NAME, "local": LOCAL}},
+    "calls": {
+        "calls": {"f": NAME}, "callers": {"f": NAME}, "can_call": {"f": NAME}, "rings": {}, "level": {"f": NAME},
+        "chain": {"f": NAME}, "is_chain": {"f": NAME, "value": ANY},
+    },
+    "effects": {
+        "cells": {"place": ACCESS}, "reads": {"f": NAME}, "writes": {"f": NAME}, "open_reads": {"f": NAME},
+        "open_writes": {"f": NAME}, "shows": {"f": NAME}, "is_calm": {"f": NAME}, "call_effects": {"place": CALL},
+        "reach": {"things": THINGS},
     },
     "derivations": {
         "why_fact": {"fact": ANY}, "is_derivation": {"fact": ANY, "value": ANY}, "is_closed": {"facts": ANY, "live": ANY},
@@ -154,12 +168,13 @@ class Arguments(unittest.TestCase):
             for args in itertools.product(*right):
                 first = function(RICH, *args)
                 again = copy.deepcopy(first)
-                if isinstance(first, list):
-                    first.append("more")
-                elif isinstance(first, dict):
+                if isinstance(first, dict):
                     for part in first.values():
                         part.append("more")
                     first["more"] = []
+                for part in first if isinstance(first, tuple) else [first]:
+                    if isinstance(part, list):
+                        part.append("more")
                 self.assertEqual(function(RICH, *args), again)
         self.check_each(check)
 
