@@ -1,6 +1,6 @@
 """Which functions call which, by the facts of a module [22, 23]."""
 
-from clobberwalk.net import bits_in
+from clobberwalk.masks import bits_in
 from clobberwalk.parts import CALLS
 
 

@@ -1,6 +1,7 @@
 """Which uses of registers are covered by their definitions [7]."""
 
-from clobberwalk.flow import dominators_of, goals_by_index, indexes_in
+from clobberwalk.flow import dominators_of, goals_by_index
+from clobberwalk.masks import indexes_in
 from clobberwalk.parts import DEFINING_NONE, defined_in_block, used_by
 
 

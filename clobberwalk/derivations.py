@@ -2,7 +2,8 @@
 
 from clobberwalk.asking import check_module, is_place
 from clobberwalk.forms import is_integer
-from clobberwalk.net import LIVE, Net, bits_in
+from clobberwalk.masks import bits_in
+from clobberwalk.net import LIVE, Net
 from clobberwalk.rules import rules_in, start_rule
 from clobberwalk.spread import least_state
 

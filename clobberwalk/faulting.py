@@ -4,7 +4,7 @@ from clobberwalk.callgraph import CallGraph
 from clobberwalk.flow import Graph
 from clobberwalk.limits import Limits
 from clobberwalk.net import NUMBER
-from clobberwalk.parts import CALLS, base_of, field_of, used_by
+from clobberwalk.parts import CALLS, base_of, field_of, index_of, used_by
 from clobberwalk.told import Told
 
 # Where the registers stand that have to be integers.
@@ -72,7 +72,7 @@ class Faults:
 
     def _can_be_outside(self, f, access):
         rows = self.told.held(f, base_of(access)) & self.net.owners_of(None)
-        local = access[3] if access[0] == "at" else access[2]
+        local = index_of(access)
         if rows == 0 or not self._can_hold_number(f, local):
             return False
         index = self.net.num_of(f, local)

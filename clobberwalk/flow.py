@@ -6,6 +6,7 @@ stands for the block with the index b.
 """
 
 from clobberwalk.errors import UnknownName
+from clobberwalk.masks import indexes_in
 from clobberwalk.parts import goals_of
 
 
@@ -27,16 +28,6 @@ def ways_from(goals, starts, barred):
         if b != barred and not found >> b & 1:
             found |= 1 << b
             waiting.extend(goals[b])
-    return found
-
-
-def indexes_in(mask):
-    """List the indexes of the bits of a mask, ascending."""
-    found = []
-    while mask > 0:
-        low = mask & -mask
-        found.append(low.bit_length() - 1)
-        mask ^= low
     return found
 
 

@@ -90,16 +90,6 @@ def wrong_block(blocks):
     return None
 
 
-def is_instruction(value):
-    """Tell whether value has the form of an instruction."""
-    return _has_form(value, {}) and value[0] not in ENDS
-
-
-def is_end(value):
-    """Tell whether value has the form of an end."""
-    return _has_form(value, {}) and value[0] in ENDS
-
-
 def wrong_index(block, known):
     """Find the first index at which a block has no instruction, or, behind them, no end; None for none.
 

@@ -5,7 +5,8 @@ state is a list of masks: for the number of each holder the things that it holds
 """
 
 from clobberwalk.asking import is_place
-from clobberwalk.flow import indexes_in, reached_blocks
+from clobberwalk.flow import reached_blocks
+from clobberwalk.masks import indexes_in
 from clobberwalk.parts import defined_in_function
 
 # Two numbers that stand for no holder: one holds every thing, as what needs
@@ -133,16 +134,6 @@ class Net:
     def name_of(self, bit):
         """Tell the name of the function with this bit."""
         return self.things[bit.bit_length() - 1][1]
-
-
-def bits_in(mask):
-    """List the bits of a mask, ascending."""
-    found = []
-    while mask > 0:
-        low = mask & -mask
-        found.append(low)
-        mask ^= low
-    return found
 
 
 def _sites_of(blocks):

@@ -38,6 +38,11 @@ def base_of(access):
     return access[2] if access[0] in LOADS else access[1]
 
 
+def index_of(access):
+    """Tell the register of the index of an at or a set."""
+    return access[3] if access[0] == "at" else access[2]
+
+
 def field_of(access):
     """Tell the field of an access, None if it is of elements."""
     if access[0] == "get":

@@ -7,7 +7,7 @@ same if they are equal.
 
 from clobberwalk.forms import GREATEST
 from clobberwalk.limits import Limits
-from clobberwalk.parts import links_of
+from clobberwalk.parts import LOADS, base_of, field_of, index_of, links_of
 
 
 class Activity:
@@ -69,11 +69,11 @@ class Process:
         """Note that a cell is read or written by the present step."""
         self.touches.append(((call.name, call.block[0], call.index - 1), (number, cell), self.steps))
 
-    def enter(self, call, name, args, receiver):
+    def enter(self, call, name, passed, receiver):
         """Begin a call of a function, or tell the fault of too many."""
         if len(self.calls) > Limits.MOST_CALLS:
             return "deep"
-        self.calls.append(Activity(self.functions[name], [call.held[local] for local in args], receiver))
+        self.calls.append(Activity(self.functions[name], [call.held[local] for local in passed], receiver))
         return None
 
     def leave(self, value):
@@ -155,37 +155,34 @@ def _do_row(process, call, thing):
 
 
 def _do_field(process, call, thing):
-    is_get = thing[0] == "get"
-    base = call.held[thing[2] if is_get else thing[1]]
-    field = thing[3] if is_get else thing[2]
+    base = call.held[base_of(thing)]
+    field = field_of(thing)
     if not _is_made(base, "object") or field not in process.stores[base[1]][1]:
         return "object"
-    fields = process.stores[base[1]][1]
-    if is_get:
-        call.held[thing[1]] = fields[field]
-    else:
-        fields[field] = call.held[thing[3]]
-    process.touch(call, base[1], field)
+    _do_access(process, call, thing, base[1], field)
     return None
 
 
 def _do_element(process, call, thing):
-    is_at = thing[0] == "at"
-    base = call.held[thing[2] if is_at else thing[1]]
-    index = call.held[thing[3] if is_at else thing[2]]
+    base = call.held[base_of(thing)]
+    index = call.held[index_of(thing)]
     if not isinstance(index, int):
         return "number"
     if not _is_made(base, "row"):
         return "row"
-    store = process.stores[base[1]][1]
-    if not 0 <= index < len(store):
+    if not 0 <= index < len(process.stores[base[1]][1]):
         return "index"
-    if is_at:
-        call.held[thing[1]] = store[index]
-    else:
-        store[index] = call.held[thing[3]]
-    process.touch(call, base[1], index)
+    _do_access(process, call, thing, base[1], index)
     return None
+
+
+def _do_access(process, call, thing, number, cell):
+    store = process.stores[number][1]
+    if thing[0] in LOADS:
+        call.held[thing[1]] = store[cell]
+    else:
+        store[cell] = call.held[thing[3]]
+    process.touch(call, number, cell)
 
 
 def _do_call(process, call, thing):

@@ -5,7 +5,8 @@ holder source holds of the mask only, if the holder base holds the bit. The base
 FULL needs nothing.
 """
 
-from clobberwalk.net import FULL, LIVE, NONE, NUMBER, bits_in
+from clobberwalk.masks import bits_in
+from clobberwalk.net import FULL, LIVE, NONE, NUMBER
 from clobberwalk.parts import LOADS, base_of, field_of, links_of, things_of
 
 EVERY = -1

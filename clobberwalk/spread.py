@@ -1,6 +1,7 @@
 """The least state that the rules of a module make [16]."""
 
-from clobberwalk.net import FULL, LIVE, bits_in
+from clobberwalk.masks import bits_in
+from clobberwalk.net import FULL, LIVE
 from clobberwalk.rules import rules_in, start_rule
 
 

@@ -1,6 +1,7 @@
 """The facts of a module, to ask about them again and again [15, 16]."""
 
-from clobberwalk.net import LIVE, Net, bits_in
+from clobberwalk.masks import bits_in
+from clobberwalk.net import LIVE, Net
 from clobberwalk.parts import base_of, field_of
 from clobberwalk.spread import least_state
 
