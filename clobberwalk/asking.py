@@ -24,7 +24,7 @@ def function_named(module, f):
 
 def check_local(function, local):
     """Raise UnknownName(local) for what is no register of the function."""
-    if not isinstance(local, str) or local not in defined_in_function(function):
+    if local not in defined_in_function(function):
         raise UnknownName(local)
 
 

@@ -15,7 +15,7 @@ def why_fact(module, fact):
     goal = _fact_of(net, fact)
     reasons = {}
     least_state(net, reasons)
-    if goal is None or goal not in reasons:
+    if goal not in reasons:
         return None
     needed = _needed_for(goal, reasons)
     order = {made: at for at, made in enumerate([made for made in reasons if made in needed])}
@@ -31,7 +31,7 @@ def is_derivation(module, fact, value):
     check_module(module)
     net = Net(module)
     goal = _fact_of(net, fact)
-    if goal is None or not isinstance(value, (list, tuple)) or len(value) == 0:
+    if not isinstance(value, (list, tuple)) or len(value) == 0:
         return False
     rules = {rule.place: rule for name in net.functions for rule in rules_in(net, name)}
     made = []

@@ -71,11 +71,9 @@ class Net:
 
     def bit_of(self, value):
         """Find the bit of a thing, 0 for any value that is none of the module."""
-        if not isinstance(value, tuple) or len(value) == 0:
-            return 0
         if value == NONE or value == NUMBER:
             return self.bits[value]
-        if len(value) != 2:
+        if not isinstance(value, tuple) or len(value) != 2:
             return 0
         word, part = value
         if (word == "fun" and isinstance(part, str)) or (word == "site" and is_place(part)):

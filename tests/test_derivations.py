@@ -133,7 +133,16 @@ class WhyFact(unittest.TestCase):
                       (register(["p"]), BOX), (("given", ["main"]), BOX), (("field", BOX, "key"), NUMBER),
                       (("element", BOX[1]), NONE), (("field", ROW[1], None), ONE), (register("p"), ("fun", ["one"])),
                       (register("p"), ("fun",)), (register("x"), ("number", 1)), (("register", "main"), NUMBER),
-                      (("given", "main", "x"), BOX), (("element", ROW[1], None), NONE), run(samples.EXAMPLE, [1])):
+                      (("given", "main", "x"), BOX), (("element", ROW[1], None), NONE), run(samples.EXAMPLE, [1]),
+                      (("nothing", "main"), BOX), (("nothing", ROW[1]), ONE), (("nothing", "main", "x"), NUMBER),
+                      (("nothing", BOX[1], "key"), NUMBER), (("register", "nowhere", "x"), NUMBER), (("given", "z"), BOX),
+                      (("register", ["main"], "x"), NUMBER), (("register", BOX[1], "key"), NUMBER), (("given", ROW[1]), ONE),
+                      (("field", "main", "x"), NUMBER), (("element", "main"), BOX), (("element", ("main", A, 1)), NONE),
+                      (("field", ("main", A, 1), "key"), NUMBER), (("register", "main", "x", "y"), NUMBER),
+                      (("given", "main", "x", "y"), BOX), (("field", BOX[1], "key", "left"), NUMBER),
+                      (("field", BOX[1], ["key"]), NUMBER), (("register",), NUMBER), ((), NUMBER), (register("x"), ()),
+                      (register("x"), ("number", "number")), (register("p"), ("nothing", BOX[1])),
+                      (register("f"), ("nothing", "one")), (register("p"), (*BOX, None)), (register("f"), ("fun", {}))):
             self.assertIsNone(why_fact(EVERY_RULE, value), value)
             self.assertIs(is_derivation(EVERY_RULE, value, derivation(*ORDER)), False)
             self.assertIs(is_closed(EVERY_RULE, [*facts(EVERY_RULE), value], ["main", "one"]), False)
@@ -249,7 +258,9 @@ class IsDerivation(unittest.TestCase):
                       [("start", None, list(fact), ())], [("start", None, fact, [])], [("start", (), fact, ())],
                       [(["start"], None, fact, ())], [("start", [None], fact, ())], [("start", None, {}, ())],
                       [("start", None, (fact,), ())], [("start", None, ("live",), ())],
-                      [("start", None, ("live", ["main"]), ())], run(samples.EXAMPLE, [1]), [run(samples.EXAMPLE, [1])]):
+                      [("start", None, ("live", ["main"]), ()), good], [("start", None, ["live", "main"], ()), good],
+                      [("start", None, ("live", "main", ""), ()), good], [("start", None, {"live": "main"}, ()), good],
+                      run(samples.EXAMPLE, [1]), [run(samples.EXAMPLE, [1])]):
             self.assertIs(is_derivation(EVERY_RULE, fact, value), False)
             self.assertIs(is_derivation(EVERY_RULE, value, [good]), False)
             self.assertIs(is_derivation(EVERY_RULE, value, value), False)

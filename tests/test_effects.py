@@ -310,6 +310,32 @@ give q
         result = call_effects(value, ("main", "e", 0))
         self.assertEqual([type(part) for part in result], [list, list, bool])
 
+    def test_cells_of_several_goals_ascend_together(self):
+        value = module("""
+kind pair left right
+function first p q
+block a
+put q left p
+get r q right
+give r
+function main x
+block a
+new p pair
+new q pair
+fun f first
+fun g second
+if x b f / b g
+block b k
+ask r k p q
+give r
+function second p q
+block a
+put p left q
+get r p right
+give r
+""")
+        self.check(value, ("main", "b", 0), "a/0.right a/1.right", "a/0.left a/1.left", False)
+
     def test_no_goal(self):
         self.check(body("ask r x\ngive x", "x"), ("main", "a", 0), "", "", False)
         value = module("function main\nblock a\nnone o\ngive o\nfunction other x\nblock a\nshow x\ncall r other x\ngive r")

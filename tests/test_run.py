@@ -488,6 +488,22 @@ give o
         self.assertNotEqual(run(samples.EXAMPLE, [0], 99), run(samples.EXAMPLE, [0], 98))
         self.assertNotEqual(run(samples.EXAMPLE, [0]), 7)
 
+    def test_results_that_differ_in_one_property(self):
+        value = module("kind pair left\nfunction main x y\nblock a\nif x b / c\nblock b\nnew p pair\ngo d\nblock c\n"
+                       "new q pair\ngo d\nblock d\nshow y\nif y e / f\nblock e\nnone o\ngive o\nblock f\nnone n\n"
+                       "go g\nblock g\ngive n")
+        first = run(value, [1, 1])
+        for inputs, names in (([2, 1], []), ([0, 1], ["made"]), ([1, 2], ["outputs"]), ([1, 0], ["outputs", "steps"])):
+            other = run(value, inputs)
+            differing = [name for name in ("outputs", "steps", "made", "end") if getattr(first, name) != getattr(other, name)]
+            self.assertEqual(differing, names)
+            self.assertIs(first == other, not names)
+        value = module("function main x\nblock a\nif x b / c\nblock b\nnone n\ngive n\nblock c\ngive x")
+        self.assertNotEqual(run(value, [0]), run(value, [0], 1))
+        self.assertNotEqual(run(body("give x", "x"), [1]), run(body("give x", "x"), [2]))
+        value = module("function main x\nblock a\nif x b / c\nblock b\ngo c\nblock c\nnone o\ngive o")
+        self.assertNotEqual(run(value, [0]), run(value, [1]))
+
 
 class Limits(Runs):
     def test_one_step(self):
