@@ -49,4 +49,8 @@ def facts(module):
     for number, holder in enumerate(told.net.holders):
         if holder is not None:
             found.extend([(holder, thing) for thing in told.things_of(number)])
-    return sorted(found, key=lambda fact: repr(fact))
+    return sorted(found, key=_shown)
+
+
+def _shown(fact):
+    return repr(fact)

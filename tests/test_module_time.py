@@ -89,6 +89,11 @@ class KnownNames(unittest.TestCase):
         self.check(("instruction", 0, 0, 0), end=("call", "r", "main", ("x", "y")))
         self.check(None, ("none", "give"), ("none", "if"), ("show", "give"), end=("give", "if"))
 
+    def test_letters_that_are_not_from_a_to_z(self):
+        for name in ("\u00e9", "a\u00df", "\u00aa", "R", "aB", "a ", "a1", "a-b"):
+            self.check(("instruction", 0, 0, 0), ("none", name))
+            self.assertEqual(module_error(((), (("main", (name,), samples.SMALL[1][0][2]),))), ("function", 0))
+
     def test_a_word_that_is_no_string_or_too_long(self):
         for word in (None, 1, ("num",), ["num"], "nums", "", "NUM"):
             self.check(("instruction", 0, 0, 0), (word, "r", 1))
