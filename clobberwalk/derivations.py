@@ -33,7 +33,7 @@ def is_derivation(module, fact, value):
     goal = _fact_of(net, fact)
     if not isinstance(value, (list, tuple)) or len(value) == 0:
         return False
-    rules = {rule.place: rule for name in net.functions for rule in rules_in(net, name)}
+    rules = {rule.place: rule for frame in net.all_frames() for rule in rules_in(net, frame)}
     made = []
     for entry in value:
         conclusion = _entry_makes(net, rules, made, entry)
@@ -55,7 +55,7 @@ def is_closed(module, facts, live):
     masks = _state_of(net, told)
     rules = [start_rule(net)]
     for bit in bits_in(masks[LIVE]):
-        rules.extend(rules_in(net, net.name_of(bit)))
+        rules.extend(rules_in(net, net.frames[net.name_of(bit)]))
     for rule in rules:
         for source, goal, only, _, _ in rule.links(masks):
             if masks[source] & only & ~masks[goal] > 0:

@@ -2,16 +2,15 @@
 
 from clobberwalk.callgraph import CallGraph
 from clobberwalk.parts import LOADS, STORES
-from clobberwalk.told import Told
 
 
 class Effects:
     """What the functions of a module read, write and show."""
 
-    def __init__(self, module):
-        self.told = Told(module)
-        self.net = self.told.net
-        self.graph = CallGraph(self.told)
+    def __init__(self, told):
+        self.told = told
+        self.net = told.net
+        self.graph = CallGraph(told)
 
     def cells_of(self, f, access):
         """Map the cells of an access of a function to True."""
@@ -43,14 +42,18 @@ class Effects:
 
     def open_among(self, f, cells):
         """List those of some cells that are of sites outside of a function."""
-        outside = self.reach_of(self.parameters_hold(f))
+        outside = self.reach_of(self.held_by(self.parameters_of(f)))
         return [cell for cell in cells if outside & self.net.bits[("site", cell[1])] > 0]
 
-    def parameters_hold(self, f):
-        """Tell the mask of what the parameters of a function hold."""
+    def parameters_of(self, f):
+        """List the numbers of the parameters of a function."""
+        return [self.net.frames[f].homes[local] for local in self.net.functions[f][1]]
+
+    def held_by(self, numbers):
+        """Tell the mask of what the holders with these numbers hold."""
         mask = 0
-        for local in self.net.functions[f][1]:
-            mask |= self.told.held(f, local)
+        for number in numbers:
+            mask |= self.told.masks[number]
         return mask
 
     def reach_of(self, mask):
@@ -59,7 +62,7 @@ class Effects:
         while mask > 0:
             low = mask & -mask
             found |= low
-            for number in self.net.cells_by_bit(low):
+            for number in self.net.cells_in(low):
                 mask |= self.told.masks[number]
             mask &= ~found
         return found

@@ -4,13 +4,14 @@ from clobberwalk.asking import check_module, function_named, thing_with
 from clobberwalk.effecting import Effects
 from clobberwalk.errors import InvalidThings
 from clobberwalk.parts import ACCESSES, CALLS
+from clobberwalk.told import Told
 
 
 def cells(module, place):
     """List the cells of an access, ascending."""
     check_module(module)
     access = thing_with(module, place, ACCESSES)
-    return sorted(Effects(module).cells_of(place[0], access))
+    return sorted(Effects(Told(module)).cells_of(place[0], access))
 
 
 def reads(module, f):
@@ -50,7 +51,7 @@ def call_effects(module, place):
     """Tell what all goals of a call read, write and show together: two lists, ascending, and True or False."""
     check_module(module)
     call = thing_with(module, place, CALLS)
-    effects = Effects(module)
+    effects = Effects(Told(module))
     goals = effects.told.goals(place[0], call)
     read = {cell: True for goal in goals for cell in effects.reads(goal)}
     written = {cell: True for goal in goals for cell in effects.writes(goal)}
@@ -60,7 +61,7 @@ def call_effects(module, place):
 def reach(module, things):
     """List some things, what the cells of their sites hold, and so on, ascending."""
     check_module(module)
-    effects = Effects(module)
+    effects = Effects(Told(module))
     if not isinstance(things, (list, tuple)):
         raise InvalidThings(things)
     mask = 0
@@ -75,4 +76,4 @@ def reach(module, things):
 def _effects_of(module, f):
     check_module(module)
     function_named(module, f)
-    return Effects(module)
+    return Effects(Told(module))

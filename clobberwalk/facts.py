@@ -1,6 +1,7 @@
 """What registers and cells can hold, and which functions can be called [15, 16]."""
 
 from clobberwalk.asking import check_local, check_module, function_named, thing_with
+from clobberwalk.parts import CALLS, MAKERS
 from clobberwalk.told import Told
 
 
@@ -9,7 +10,7 @@ def holds(module, f, local):
     check_module(module)
     check_local(function_named(module, f), local)
     told = Told(module)
-    return told.things_of(told.net.homes[f][local])
+    return told.things_of(told.net.frames[f].homes[local])
 
 
 def given_by(module, f):
@@ -17,15 +18,14 @@ def given_by(module, f):
     check_module(module)
     function_named(module, f)
     told = Told(module)
-    return told.things_of(told.net.given[f])
+    return told.things_of(told.net.frames[f].given)
 
 
 def kept(module, place):
     """Map each field of a site, None for a row's elements, to the list of things that it can hold."""
     check_module(module)
-    thing_with(module, place, ("new", "row"))
-    told = Told(module)
-    return {name: told.things_of(cell) for name, cell in told.net.cells[place].items()}
+    thing_with(module, place, MAKERS)
+    return Told(module).kept(place)
 
 
 def live(module):
@@ -37,7 +37,7 @@ def live(module):
 def goals(module, place):
     """List the functions that a call or an ask can call, ascending."""
     check_module(module)
-    thing = thing_with(module, place, ("call", "ask"))
+    thing = thing_with(module, place, CALLS)
     return Told(module).goals(place[0], thing)
 
 

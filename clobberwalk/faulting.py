@@ -5,7 +5,6 @@ from clobberwalk.flow import Graph
 from clobberwalk.limits import Limits
 from clobberwalk.net import NUMBER
 from clobberwalk.parts import CALLS, base_of, field_of, index_of, used_by
-from clobberwalk.told import Told
 
 # Where the registers stand that have to be integers.
 INTEGERS_AT = {
@@ -19,9 +18,9 @@ ELEMENT_WORDS = ("at", "set")
 class Faults:
     """The words of the faults of one module."""
 
-    def __init__(self, module):
-        self.told = Told(module)
-        self.net = self.told.net
+    def __init__(self, told):
+        self.told = told
+        self.net = told.net
 
     def words_at(self, place, thing):
         """Tell the words of the faults that can come at a place, in the order of the document."""

@@ -11,14 +11,14 @@ def words(module, place):
     """Tell the words of the faults that can come at a place, in the order of the document."""
     check_module(module)
     thing = thing_at(module, place)
-    return Faults(module).words_at(place, thing)
+    return Faults(Told(module)).words_at(place, thing)
 
 
 def is_sure(module, place):
     """Tell whether a place is sure: no run ends with a fault there."""
     check_module(module)
     thing = thing_at(module, place)
-    return Faults(module).is_sure(place, thing)
+    return Faults(Told(module)).is_sure(place, thing)
 
 
 def sorts(module, f, local):
@@ -26,7 +26,7 @@ def sorts(module, f, local):
     check_module(module)
     check_local(function_named(module, f), local)
     told = Told(module)
-    found = {_sort_of(told.net, thing): True for thing in told.things_of(told.net.homes[f][local])}
+    found = {_sort_of(told.net, thing): True for thing in told.things_of(told.net.frames[f].homes[local])}
     return tuple(sorted(found))
 
 

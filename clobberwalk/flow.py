@@ -97,9 +97,23 @@ class Graph:
                         found |= 1 << goal
         return found
 
+    def joins_of(self, starts):
+        """Tell the mask of the iterated dominance frontier of some blocks."""
+        found = 0
+        waiting = list(starts)
+        while len(waiting) > 0:
+            more = self.frontier(waiting.pop()) & ~found
+            found |= more
+            waiting.extend(indexes_in(more))
+        return found
+
+    def sources(self):
+        """List for each block the reached blocks from which edges lead to it."""
+        return [[b for b in self.blocks if goal in self.goals[b]] for goal in range(len(self.goals))]
+
     def loop_masks(self):
         """List the tuples (head, mask of the loop), in the order of the function."""
-        sources = [[b for b in self.blocks if goal in self.goals[b]] for goal in range(len(self.goals))]
+        sources = self.sources()
         found = []
         for head in self.blocks:
             ends = [b for b in sources[head] if self.dominates(head, b)]

@@ -7,7 +7,7 @@ state is a list of masks: for the number of each holder the things that it holds
 from clobberwalk.asking import is_place
 from clobberwalk.flow import reached_blocks
 from clobberwalk.masks import indexes_in
-from clobberwalk.parts import defined_in_function
+from clobberwalk.parts import MAKERS, defined_in_function
 
 # Two numbers that stand for no holder: one holds every thing, as what needs
 # nothing is made from it, the other one the functions that are live.
@@ -16,6 +16,16 @@ LIVE = 1
 
 NONE = ("none",)
 NUMBER = ("number",)
+
+
+class Frame:
+    """Where it is told of a function what its registers hold, what it gives, and that it is live: by numbers."""
+
+    def __init__(self, name, alive, given, homes):
+        self.name = name
+        self.alive = alive
+        self.given = given
+        self.homes = homes
 
 
 class Net:
@@ -31,24 +41,34 @@ class Net:
         self.things = [*named, NONE, NUMBER, *[("site", place) for place in self.sites]]
         self.bits = {thing: 1 << at for at, thing in enumerate(self.things)}
         self.holders = [None, None]
-        self.given = {}
-        self.homes = {}
         self.cells = {}
         # For each field, and None for elements, the cells of all sites, by the bits of these.
         self.owners = {None: {}}
-        for name in self.functions:
-            self._add_function(name)
+        self.frames = {name: self.new_frame(name, LIVE) for name in self.functions}
         for place, made in self.sites.items():
             self._add_site(place, made)
 
-    def _add_function(self, name):
-        self.given[name] = len(self.holders)
+    def new_frame(self, name, alive):
+        """Make room for what is told of a function; that it is live is told by the holder alive."""
+        given = len(self.holders)
         self.holders.append(("given", name))
         homes = {}
         for local in defined_in_function(self.functions[name]):
             homes[local] = len(self.holders)
             self.holders.append(("register", name, local))
-        self.homes[name] = homes
+        return Frame(name, alive, given, homes)
+
+    def all_frames(self):
+        """List the frames of all functions."""
+        return list(self.frames.values())
+
+    def frame_at(self, _, name):
+        """Find the frame of a function that is called at a place: here it is one for all places."""
+        return self.frames[name]
+
+    def askable(self, _, ask):
+        """List the functions that the ask at a place could call, ascending."""
+        return self.fitting(len(ask[3]))
 
     def _add_site(self, place, made):
         names = [None] if made[0] == "row" else self.fields[made[2]]
@@ -86,13 +106,13 @@ class Net:
             return None
         word, part = value[0], value[1]
         if word == "given" and len(value) == 2 and isinstance(part, str):
-            return self.given.get(part)
+            return self.frames[part].given if part in self.frames else None
         if word == "element" and len(value) == 2:
             return self._cell_of(part, None)
         if len(value) == 2 or not isinstance(value[2], str):
             return None
-        if word == "register" and isinstance(part, str) and part in self.homes:
-            return self.homes[part].get(value[2])
+        if word == "register" and isinstance(part, str) and part in self.frames:
+            return self.frames[part].homes.get(value[2])
         return self._cell_of(part, value[2]) if word == "field" else None
 
     def _cell_of(self, place, name):
@@ -120,10 +140,17 @@ class Net:
         """Find the integer of the num that defines the length of the rows of a site, None if no num does."""
         return self.num_of(place[0], self.sites[place][2])
 
-    def cells_by_bit(self, bit):
-        """List the numbers of the cells of the site with this bit; other things have none."""
-        thing = self.things[bit.bit_length() - 1]
-        return list(self.cells[thing[1]].values()) if thing[0] == "site" else []
+    def cells_in(self, mask):
+        """List the numbers of the cells of the sites of a mask; other things have none."""
+        found = []
+        for thing in self.things_in(mask):
+            if thing[0] == "site":
+                found.extend(list(self.cells[thing[1]].values()))
+        return found
+
+    def all_sites(self):
+        """Tell the mask of all sites."""
+        return sum([self.bits[("site", place)] for place in self.sites])
 
     def fun_bit(self, name):
         """Tell the bit of the function with this name."""
@@ -139,6 +166,6 @@ def _sites_of(blocks):
     for name in blocks:
         for block in blocks[name]:
             for i, thing in enumerate(block[2]):
-                if thing[0] == "new" or thing[0] == "row":
+                if thing[0] in MAKERS:
                     found[(name, block[0], i)] = thing
     return {place: found[place] for place in sorted(found)}

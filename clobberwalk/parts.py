@@ -14,6 +14,7 @@ USED_AT = {
 # The words of the instructions that define no register; all others define their first part.
 DEFINING_NONE = ("put", "set", "show")
 
+MAKERS = ("new", "row")
 LOADS = ("get", "at")
 STORES = ("put", "set")
 ACCESSES = ("get", "at", "put", "set")
@@ -31,6 +32,21 @@ def used_by(thing):
         for at in ARGS_AT[word]:
             found = found + thing[at]
     return found
+
+
+def with_other_use(thing, local, other):
+    """Make the instruction or end that uses another register wherever this one uses a register."""
+    word = thing[0]
+    found = list(thing)
+    if word in USED_AT:
+        first, last, by = USED_AT[word]
+        for at in range(first, last, by):
+            if thing[at] == local:
+                found[at] = other
+    if word in ARGS_AT:
+        for at in ARGS_AT[word]:
+            found[at] = tuple([other if name == local else name for name in thing[at]])
+    return tuple(found)
 
 
 def base_of(access):

@@ -6,8 +6,8 @@ FULL needs nothing.
 """
 
 from clobberwalk.masks import bits_in
-from clobberwalk.net import FULL, LIVE, NONE, NUMBER
-from clobberwalk.parts import LOADS, base_of, field_of, links_of, things_of
+from clobberwalk.net import FULL, NONE, NUMBER
+from clobberwalk.parts import LOADS, MAKERS, base_of, field_of, links_of, things_of
 
 EVERY = -1
 
@@ -55,38 +55,39 @@ class Rule:
 
 def start_rule(net):
     """Make the rule by which main is live."""
-    main = net.functions["main"]
-    made = [(LIVE, net.fun_bit("main"))]
-    made.extend([(net.homes["main"][local], net.bits[NUMBER]) for local in main[1]])
+    frame = net.frames["main"]
+    made = [(frame.alive, net.fun_bit("main"))]
+    made.extend([(frame.homes[local], net.bits[NUMBER]) for local in net.functions["main"][1]])
     return Rule("start", None, 0, _makes(made))
 
 
-def rules_in(net, name):
-    """List the rules at the places of the reached blocks of a function; a show makes nothing."""
+def rules_in(net, frame):
+    """List the rules at the places of the reached blocks of a frame's function; a show makes nothing."""
     rules = []
-    for block in net.blocks[name]:
+    for block in net.blocks[frame.name]:
         for i, thing in enumerate(things_of(block)):
             if thing[0] in RULES:
-                rules.append(_rule_at(net, (name, block[0], i), thing))
+                rules.append(_rule_at(net, frame, (frame.name, block[0], i), thing))
     return rules
 
 
-def _rule_at(net, place, thing):
+def _rule_at(net, frame, place, thing):
     word = RULES[thing[0]]
-    homes = net.homes[place[0]]
-    rule = Rule(word, place, net.fun_bit(place[0]), [])
+    homes = frame.homes
+    rule = Rule(word, place, net.fun_bit(frame.name), [])
     if word == "make":
         rule.fixed = _makes(_made_at(net, place, thing, homes))
     elif word == "pass":
         rule.fixed = _passes(_passed_at(net, place, thing, homes))
     elif word == "give":
-        rule.fixed = _passes([(homes[thing[1]], net.given[place[0]])])
+        rule.fixed = _passes([(homes[thing[1]], frame.given)])
     elif word == "put" or word == "get":
         _let_access(rule, net, thing, homes)
     elif word == "call":
-        rule.fixed = _makes([(LIVE, net.fun_bit(thing[2]))]) + _passes(_called(net, thing, thing[2], homes))
+        callee = net.frame_at(place, thing[2])
+        rule.fixed = _makes([(callee.alive, net.fun_bit(callee.name))]) + _passes(_called(net, callee, thing, homes))
     else:
-        _let_ask(rule, net, thing, homes)
+        _let_ask(rule, net, place, thing, homes)
     return rule
 
 
@@ -100,7 +101,7 @@ def _passes(passed):
 
 def _made_at(net, place, thing, homes):
     goal = homes[thing[1]]
-    if thing[0] == "new" or thing[0] == "row":
+    if thing[0] in MAKERS:
         none = net.bits[NONE]
         return [(goal, net.bits[("site", place)]), *[(cell, none) for cell in net.cells[place].values()]]
     if thing[0] == "fun":
@@ -116,11 +117,11 @@ def _passed_at(net, place, thing, homes):
     return found
 
 
-def _called(net, thing, name, homes):
+def _called(net, callee, thing, homes):
     """List what a call of a function passes: args to its parameters, and what it gives to the register."""
-    theirs = net.homes[name]
-    found = [(homes[local], theirs[other]) for local, other in zip(thing[3], net.functions[name][1])]
-    found.append((net.given[name], homes[thing[1]]))
+    parameters = net.functions[callee.name][1]
+    found = [(homes[local], callee.homes[other]) for local, other in zip(thing[3], parameters)]
+    found.append((callee.given, homes[thing[1]]))
     return found
 
 
@@ -133,8 +134,8 @@ def _let_access(rule, net, thing, homes):
     rule.bring(homes[base_of(thing)], brought)
 
 
-def _let_ask(rule, net, thing, homes):
+def _let_ask(rule, net, place, thing, homes):
     base = homes[thing[2]]
-    names = net.fitting(len(thing[3]))
-    rule.bring(base, {net.fun_bit(name): _called(net, thing, name, homes) for name in names})
-    rule.fixed = [(base, LIVE, rule.bringers, FULL, 0)]
+    callees = {net.fun_bit(name): net.frame_at(place, name) for name in net.askable(place, thing)}
+    rule.bring(base, {bit: _called(net, callee, thing, homes) for bit, callee in callees.items()})
+    rule.fixed = [(base, callee.alive, bit, FULL, 0) for bit, callee in callees.items()]

@@ -13,15 +13,16 @@ def least_state(net, reasons):
     """
     masks = net.empty_state()
     _spread(start_rule(net), masks, reasons)
-    begun = 0
+    waiting = net.all_frames()
     lasting = []
     changed = True
     while changed:
         changed = False
-        for bit in bits_in(masks[LIVE] & ~begun):
+        begun = [frame for frame in waiting if masks[frame.alive] & net.fun_bit(frame.name) > 0]
+        waiting = [frame for frame in waiting if masks[frame.alive] & net.fun_bit(frame.name) == 0]
+        for frame in begun:
             changed = True
-            begun |= bit
-            for rule in rules_in(net, net.name_of(bit)):
+            for rule in rules_in(net, frame):
                 _spread(rule, masks, reasons)
                 if rule.lasts():
                     lasting.append(rule)

@@ -15,11 +15,15 @@ class Told:
 
     def held(self, f, local):
         """Tell the mask of the things that a register holds."""
-        return self.masks[self.net.homes[f][local]]
+        return self.masks[self.net.frames[f].homes[local]]
 
     def things_of(self, number):
         """List the things that the holder with this number holds, ascending."""
         return self.net.things_in(self.masks[number])
+
+    def kept(self, place):
+        """Map each field of a site, None for a row's elements, to the list of things that it holds, ascending."""
+        return {name: self.things_of(cell) for name, cell in self.net.cells[place].items()}
 
     def is_live(self, f):
         """Tell whether a function is live."""

@@ -25,8 +25,8 @@ def labels(first, count):
     return [first + one + other for one in signs for other in signs][:count]
 
 
-def draw_module(source, most_functions=4, most_blocks=5, most_things=5):
-    """Make a module of functions of some blocks of some instructions each."""
+def draw_module(source, most_functions=4, most_blocks=5, most_things=5, gives=None):
+    """Make a module of functions of some blocks of some instructions each, that often give what is of a sort."""
     others = sorted(source.sample(("a", "f", "g", "h", "n", "z", "zz"), source.randint(0, most_functions - 1)))
     names = sorted([*others, "main"])
     # The sorts of what the parameters of each function should hold; those of main hold integers.
@@ -34,7 +34,7 @@ def draw_module(source, most_functions=4, most_blocks=5, most_things=5):
     rooms["main"] = ["number"] * len(rooms["main"])
     while True:
         functions = tuple([
-            Drawer(source, name, rooms).function(source.randint(1, most_blocks), most_things) for name in names
+            Drawer(source, name, rooms, gives).function(source.randint(1, most_blocks), most_things) for name in names
         ])
         if sum([len(block[2]) + 1 for function in functions for block in function[2]]) <= 120:
             return (KINDS, functions)
@@ -65,10 +65,11 @@ def ways(goals, barred):
 class Drawer:
     """Draws one function; each register has a sort that it will often have."""
 
-    def __init__(self, source, name, rooms):
+    def __init__(self, source, name, rooms, gives=None):
         self.source = source
         self.name = name
         self.rooms = rooms
+        self.gives = gives
         self.fresh = labels(name[0], 400)
         self.sorts = {}
 
@@ -190,7 +191,7 @@ class Drawer:
         """Draw the end that leads to these blocks."""
         links = [(names[b], tuple([self.pick(ready, self.sorts[name]) for name in rooms[b]])) for b in goals]
         if not links:
-            return ("give", self.source.choice(ready))
+            return ("give", self.pick(ready, self.gives) if self.gives else self.source.choice(ready))
         if len(links) == 1:
             return ("go", *links[0])
         return ("if", self.pick(ready, "number"), *links[0], *links[1])

@@ -229,6 +229,7 @@ class Machine:
             put(name, value)
         block = blocks[0]
         while True:
+            self.arrive(block[0])
             for at, thing in enumerate(block[2]):
                 self.due()
                 self.do((f, block[0], at), thing, held, put, depth)
@@ -243,6 +244,9 @@ class Machine:
             block = blocks_of(self.world.functions[f])[name]
             for parameter, value in zip(block[1], values):
                 put(parameter, value)
+
+    def arrive(self, name):
+        """Hear of each block that the present call comes to."""
 
     def due(self):
         if self.steps == self.limit:

@@ -10,6 +10,7 @@ import samples
 from clobberwalk import errors
 from clobberwalk.machine import run
 from clobberwalk.modules import module_error
+from clobberwalk.steps import steps
 
 RICH = samples.RICH
 WORDS = [thing[0] for thing in samples.EVERY_WORD] + ["go"]
@@ -51,7 +52,11 @@ NAME = [Sort(["main", "twin"], WRONG_NAMES, errors.UnknownName, "value")]
 BLOCK = [Sort(["start", "loop", "both", "done"], WRONG_BLOCKS, errors.UnknownName, "value")]
 LOCAL = [Sort(["x", "n", "p", "i", "s"], WRONG_LOCALS, errors.UnknownName, "value")]
 PLACE = [Sort(ALL_PLACES, WRONG_PLACES, errors.UnknownPlace, "value")]
-ACCESS, CALL = place_with("get", "put", "at", "set"), place_with("call", "ask")
+ACCESS, CALL, SITE = place_with("get", "put", "at", "set"), place_with("call", "ask"), place_with("new", "row")
+VIEW = [Sort([None], [*[one for one in WRONG_PLACES if one is not None], *ALL_PLACES], errors.InvalidView, "value")]
+STEP = [Sort(steps(RICH), [*WRONG_PLACES, PLACES["ask"], ("call", PLACES["call"]), ("call", list(PLACES["ask"])), ("call",),
+                           ["call", PLACES["ask"]], ("unused", PLACES["num"]), ("function", "twin"), ("function", [])],
+             errors.InvalidStep, "value")]
 THINGS = [Sort([[], (), [("none",)], (("number",), ("fun", "twin"))],
                [*[one for one in samples.STRAYS if one not in ((), [])], ("none",), [("nothing",)], [PLACES["new"]]],
                errors.InvalidThings, "value")]
@@ -72,7 +77,7 @@ FUNCTIONS = {
         "depth": {"f": NAME, "block": BLOCK},
     },
     "facts": {
-        "holds": {"f": NAME, "local": LOCAL}, "given_by": {"f": NAME}, "kept": {"place": place_with("new", "row")},
+        "holds": {"f": NAME, "local": LOCAL}, "given_by": {"f": NAME}, "kept": {"place": SITE},
         "live": {}, "goals": {"place": CALL}, "facts": {},
     },
     "faults": {"words": {"place": PLACE}, "is_sure": {"place": PLACE}, "sorts": {"f": NAME, "local": LOCAL}},
@@ -85,6 +90,19 @@ FUNCTIONS = {
         "open_writes": {"f": NAME}, "shows": {"f": NAME}, "is_calm": {"f": NAME}, "call_effects": {"place": CALL},
         "reach": {"things": THINGS},
     },
+    "escape": {
+        "leaves": {"place": SITE}, "leaving": {"f": NAME}, "staying": {"f": NAME}, "why_leaves": {"place": SITE},
+        "is_path": {"place": SITE, "value": ANY}, "shows_staying": {"place": SITE, "value": ANY},
+    },
+    "views": {
+        "views": {"f": NAME}, "holds_in": {"f": NAME, "local": LOCAL, "view": VIEW}, "given_in": {"f": NAME, "view": VIEW},
+        "kept_split": {"place": SITE}, "goals_split": {"place": CALL},
+    },
+    "versions": {
+        "meets": {"place": ACCESS, "other": ACCESS}, "writers": {"place": ACCESS}, "clobber": {"place": ACCESS},
+        "seen": {"place": ACCESS},
+    },
+    "steps": {"steps": {}, "after": {"step": STEP}, "passed": {}, "is_row": {"value": ANY, "other": ANY}},
     "derivations": {
         "why_fact": {"fact": ANY}, "is_derivation": {"fact": ANY, "value": ANY}, "is_closed": {"facts": ANY, "live": ANY},
     },
