@@ -96,13 +96,14 @@ def wrong_index(block, known):
     The dict known collects the strings that were found to be names, so that each is looked at once.
     """
     for i, thing in enumerate(block[2]):
-        if not _has_form(thing, known) or thing[0] in ENDS:
+        if not has_thing_form(thing, known) or thing[0] in ENDS:
             return i
     end = block[3]
-    return None if _has_form(end, known) and end[0] in ENDS else len(block[2])
+    return None if has_thing_form(end, known) and end[0] in ENDS else len(block[2])
 
 
-def _has_form(value, known):
+def has_thing_form(value, known):
+    """Tell whether value is an instruction or an end; known as in wrong_index."""
     # Only a string may be looked up: other first parts need not be hashable.
     if not isinstance(value, tuple) or len(value) == 0 or not isinstance(value[0], str):
         return False
