@@ -2,6 +2,8 @@
 
 import re
 
+from written import thing
+
 NAME, NUMBER = re.compile("[a-z]{1,8}"), re.compile("0|-?[1-9][0-9]{0,40}")
 PARTS = {
     "none": "n", "fun": "nn", "add": "nnn", "sub": "nnn", "mul": "nnn", "less": "nnn", "not": "nn", "same": "nnn", "new": "nn",
@@ -45,20 +47,6 @@ def first_wrong(words):
     return None if whole else longest
 
 
-def read_thing(words):
-    word, rest = words[0], words[1:]
-    if word == "num":
-        return (word, rest[0], int(rest[1]))
-    if word in ("call", "ask"):
-        return (word, *rest[:2], tuple(rest[2:]))
-    if word == "go":
-        return (word, rest[0], tuple(rest[1:]))
-    if word == "if":
-        at = rest.index("/")
-        return (word, rest[0], rest[1], tuple(rest[2:at]), rest[at + 1], tuple(rest[at + 2:]))
-    return tuple(words)
-
-
 def allowed(sorts):
     """Tell the first words that can follow on some sorts of lines: k f b, i for an instruction, e for an end."""
     if not sorts or sorts[-1] == "k":
@@ -95,9 +83,9 @@ def read_text(text):
         elif words[0] == "block":
             functions[-1][2].append([words[1], tuple(words[2:]), [], None])
         elif words[0] in ENDS:
-            functions[-1][2][-1][3] = read_thing(words)
+            functions[-1][2][-1][3] = thing(line)
         else:
-            functions[-1][2][-1][2].append(read_thing(words))
+            functions[-1][2][-1][2].append(thing(line))
     if sorts[-1] != "e":
         raise Wrong(len(lines), 0)
     return (tuple(kinds), tuple([

@@ -176,6 +176,52 @@ class Language(unittest.TestCase):
                         self.assertTrue(is_reading(parent, child), ast.dump(parent))
         self.check_each(check)
 
+    def classes(self):
+        """List the classes of the package, and the names of the attributes that each assigns to itself."""
+        found = []
+        for path in FOLDER.rglob("*.py"):
+            for node in ast.walk(ast.parse(path.read_text(encoding="utf-8"))):
+                if isinstance(node, ast.ClassDef):
+                    stored = {
+                        part.attr for part in ast.walk(node)
+                        if isinstance(part, ast.Attribute) and isinstance(part.ctx, ast.Store) and getattr(part.value, "id", "") == "self"
+                    }
+                    found.append((node, stored))
+        return found
+
+    def test_names_of_methods_attributes_and_properties(self):
+        classes = self.classes()
+        methods = {node.name: [one for one in node.body if isinstance(one, ast.FunctionDef)] for node, _ in classes}
+        bases = {node.name: [base.id for base in node.bases if base.id in methods] for node, _ in classes}
+        stored = {node.name: names for node, names in classes}
+        every = {name for names in stored.values() for name in names}
+        for name, own in methods.items():
+            family, waiting = set(), [name]
+            while waiting:
+                family.add(waiting[0])
+                waiting.extend(bases[waiting.pop(0)])
+            names = [one.name for one in own]
+            for one in own:
+                with self.subTest(f"{name}.{one.name}"):
+                    self.assertFalse([other for other in family if one.name in stored[other]])
+                    self.assertEqual(names.count(one.name), 1)
+                    if one.decorator_list or any([isinstance(part, (ast.Yield, ast.YieldFrom)) for part in ast.walk(one)]):
+                        self.assertNotIn(one.name, every)
+                        for other in [two for rows in methods.values() for two in rows if two.name == one.name]:
+                            self.assertEqual([ast.dump(part) for part in other.decorator_list], [ast.dump(part) for part in one.decorator_list])
+
+    def test_methods_are_read_off_objects(self):
+        names = {node.name for node, _ in self.classes()}
+        static = {one.name for node, _ in self.classes() for one in node.body if getattr(one, "decorator_list", None)}
+
+        def check(_, __, tree):
+            for node in ast.walk(tree):
+                if isinstance(node, ast.Attribute) and isinstance(node.value, ast.Name) and node.value.id in names:
+                    self.assertTrue(node.attr.isupper() or node.attr in static, node.attr)
+                if isinstance(node, ast.Attribute) and node.attr.startswith("__"):
+                    self.assertEqual(node.attr, "__init__")
+        self.check_each(check)
+
     def test_nodes_that_are_not_used(self):
         def check(_, text, tree):
             for node in ast.walk(tree):

@@ -148,6 +148,12 @@ class Loads(Sort):
         self.check("", body(text, "x"), at("d", 0))
         self.in_body("", "new p pair\nget r p left\nput p left x\ngive r", 1)
 
+    def test_a_call_that_writes_is_no_store(self):
+        # Its register is the base of the load, and its function has the name of the index.
+        value = module("function i y\nblock b\nnum n 1\nrow w n\nnum o 0\nset w o y\ngive w\n"
+                       "function main x\nblock a\nnum i 0\ncall q i x\nat r q i\ngive r")
+        self.check("", value, at("a", 2))
+
     def test_a_store_in_a_dominator(self):
         text = "new p pair\nput p left x\nif x b / c\nblock b\nget r p left\ngive r\nblock c\ngive x"
         self.check("load", body(text, "x"), at("b", 0))

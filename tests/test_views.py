@@ -145,6 +145,8 @@ give z
         # The place of the ask is one for both views of use; so its goals are told together in each.
         self.assertEqual(given_in(value, "use", ("main", "a", 2)), [NUMBER])
         self.assertEqual(given_in(value, "use", ("main", "a", 3)), [NONE])
+        for name in ("one", "two"):
+            self.assertEqual(views(value, name), [("use", "c", 0)])
 
     def test_fewer_goals_than_without_views(self):
         text = "function main x\nblock a\nfun f one\ncall r id f\ncall s id x\nfun g two\ncall t id g\nask u r\ngive u\n" \
