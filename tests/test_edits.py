@@ -338,7 +338,9 @@ def draw_edit(source, value):
     if word == "forget":
         return (word, source.choice(value[0])[0]) if value[0] else None
     if word == "function":
-        return (word, source.choice([*value[1], (fresh, (), (("a", (), (("num", "n", 1),), ("give", "n")),))]))
+        # What lost all its blocks, or got an entry with parameters, is none.
+        whole = [function for function in value[1] if function[2] and not function[2][0][1]]
+        return (word, source.choice([*whole, (fresh, (), (("a", (), (("num", "n", 1),), ("give", "n")),))]))
     if word == "remove":
         return (word, source.choice(value[1])[0]) if value[1] else None
     blocks = [(function[0], block) for function in value[1] for block in function[2]]
